@@ -1,0 +1,151 @@
+"""The code of the package: sizes, characters, imports, names, and where the interface is defined."""
+
+import ast
+import pathlib
+import re
+import unittest
+
+PACKAGE = pathlib.Path(__file__).resolve().parent.parent / "fewestmethods"
+
+INTERFACE = {
+    "errors.py": {"MethodsError": []},
+    "names.py": {"is_name": None},
+    "hierarchy.py": {
+        "Hierarchy": [
+            "__init__", "__eq__", "__len__", "__repr__", "__str__", "read", "of", "names", "has_class",
+            "superclasses", "position_of", "is_at_or_below", "ancestors", "descendants", "highest_common",
+            "with_class", "without_class", "LIMIT",
+        ],
+    },
+    "points.py": {
+        "MAX_PARAMETERS": None, "is_point": None, "is_point_at_or_below": None, "listed": None, "highest": None,
+        "lowest": None, "all_points": None, "points_at_or_below": None, "highest_common_points": None,
+    },
+}
+
+BARRED_WORDS = (
+    "type typing typing_extensions enum Enum IntEnum StrEnum Flag IntFlag Generic Protocol ABC ABCMeta namedtuple "
+    "NamedTuple TypedDict TYPE_CHECKING abstractmethod"
+).split()
+BUILTINS = (
+    "len range enumerate zip min max sum abs sorted reversed int str bool list tuple dict set isinstance ord repr any "
+    "all divmod iter next super property staticmethod classmethod ValueError KeyError IndexError LookupError "
+    "ArithmeticError RuntimeError"
+).split()
+BUILTIN_METHODS = (
+    "append clear copy count endswith extend find get index insert isalnum isalpha isdigit islower isspace isupper "
+    "items join keys ljust lower lstrip partition pop remove replace reverse rfind rjust rpartition rsplit rstrip "
+    "setdefault split splitlines startswith strip update upper values zfill add discard __init__"
+).split()
+
+
+def bound_names(tree):
+    """Every name that a file binds, at any place."""
+    found = []
+    for node in ast.walk(tree):
+        if isinstance(node, (ast.FunctionDef, ast.ClassDef)):
+            found.append(node.name)
+        elif isinstance(node, ast.arg):
+            found.append(node.arg)
+        elif isinstance(node, ast.Name) and isinstance(node.ctx, ast.Store):
+            found.append(node.id)
+        elif isinstance(node, ast.alias):
+            found.append(node.asname or node.name)
+        elif isinstance(node, ast.ExceptHandler) and node.name:
+            found.append(node.name)
+    return found
+
+
+def defined_names(body):
+    """The names of the functions, classes and values of a module or a class."""
+    found = []
+    for node in body:
+        if isinstance(node, (ast.FunctionDef, ast.ClassDef)):
+            found.append(node.name)
+        elif isinstance(node, ast.Assign):
+            found.extend(target.id for target in node.targets)
+    return found
+
+
+class RulesTest(unittest.TestCase):
+    @classmethod
+    def setUpClass(cls):
+        cls.texts = {path.name: path.read_text() for path in sorted(PACKAGE.glob("*.py"))}
+        cls.trees = {name: ast.parse(text) for name, text in cls.texts.items()}
+
+    def test_the_folder_contains_nothing_else(self):
+        others = [path.name for path in PACKAGE.iterdir() if path.suffix != ".py" and path.name != "__pycache__"]
+        self.assertEqual(others, [])
+        self.assertIn("__init__.py", self.texts)
+        for name in self.texts:
+            self.assertRegex(name, r"\A(__init__|__main__|[a-z][a-z0-9_]*)\.py\Z")
+
+    def test_sizes_and_characters(self):
+        for name, text in self.texts.items():
+            lines = text.split("\n")
+            self.assertLessEqual(len(lines), 399, name)
+            self.assertLessEqual(max(len(line) for line in lines), 120, name)
+            self.assertRegex(text, r"\A[ -~\n]*\Z", name)
+            for node in ast.walk(self.trees[name]):
+                if isinstance(node, ast.FunctionDef):
+                    self.assertLessEqual(node.end_lineno - node.lineno + 1, 40, node.name)
+
+    def test_barred_words(self):
+        for name, text in self.texts.items():
+            words = set(re.findall(r"[A-Za-z_]+", text))
+            self.assertEqual(words & set(BARRED_WORDS), set(), name)
+
+    def test_imports_name_the_file_that_defines_the_name(self):
+        for name, tree in self.trees.items():
+            for node in ast.walk(tree):
+                self.assertNotIsInstance(node, ast.Import, name)
+                if isinstance(node, ast.ImportFrom):
+                    folder, file = node.module.split(".")
+                    self.assertEqual((folder, node.level), ("fewestmethods", 0))
+                    for alias in node.names:
+                        self.assertIn(alias.name, defined_names(self.trees[file + ".py"].body))
+
+    def test_names(self):
+        for name, tree in self.trees.items():
+            bound = bound_names(tree)
+            for one in bound:
+                self.assertRegex(one, r"\A([A-Za-z]\w*|__[a-z]+__)\Z", name)
+                self.assertNotIn(one, BUILTINS, name)
+            used = {node.id for node in ast.walk(tree) if isinstance(node, ast.Name)}
+            self.assertEqual(used - set(bound) - set(BUILTINS), set(), name)
+
+    def test_methods_that_are_called(self):
+        own = set(BUILTIN_METHODS)
+        for tree in self.trees.values():
+            for node in ast.walk(tree):
+                if isinstance(node, ast.ClassDef):
+                    own.update(defined_names(node.body))
+        for name, tree in self.trees.items():
+            for node in ast.walk(tree):
+                if isinstance(node, ast.Call) and isinstance(node.func, ast.Attribute):
+                    self.assertIn(node.func.attr, own, name)
+
+    def test_no_name_is_a_method_and_an_attribute(self):
+        methods, attributes = set(), set()
+        for tree in self.trees.values():
+            for node in ast.walk(tree):
+                if isinstance(node, ast.ClassDef):
+                    methods.update(defined_names(node.body))
+                elif isinstance(node, ast.Attribute) and isinstance(node.ctx, ast.Store):
+                    attributes.add(node.attr)
+        self.assertEqual(methods & attributes, set())
+
+    def test_the_interface_is_defined_where_it_belongs(self):
+        for name, parts in INTERFACE.items():
+            body = self.trees[name].body
+            self.assertLessEqual(set(parts), set(defined_names(body)), name)
+            for node in body:
+                if isinstance(node, ast.ClassDef) and parts.get(node.name):
+                    self.assertLessEqual(set(parts[node.name]), set(defined_names(node.body)), node.name)
+
+    def test_the_package_itself_binds_nothing(self):
+        self.assertEqual(defined_names(self.trees["__init__.py"].body), [])
+
+
+if __name__ == "__main__":
+    unittest.main()
