@@ -19,6 +19,11 @@ def is_point(hierarchy, value):
     return all([hierarchy.has_class(name) for name in value])
 
 
+def is_point_of_length(hierarchy, value, count):
+    """Whether the value is a point of count classes."""
+    return is_point(hierarchy, value) and len(value) == count
+
+
 def require_point(hierarchy, value):
     """Raises InvalidPoint if the value is not a point."""
     if not is_point(hierarchy, value):

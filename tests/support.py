@@ -2,6 +2,7 @@
 
 import copy
 import itertools
+import random
 import unittest
 
 from fewestmethods.hierarchy import Hierarchy
@@ -35,7 +36,41 @@ LISTS = ([], ["a"], ["thing"], [["a"]], [("a", ())], [{}], [("a",)])
 TUPLES = ((), ("a",), ("thing",), ("a", ()), (("a", ()),), (["a"],), ({},), (None,), (True,))
 # All of these but the last one are no names, and none is a class of KINDS or WIDE.
 STRINGS = ("", " ", "A", "Thing", "thing ", " thing", "thing\n", "a b", "a1", "1", "a-b", "abcdefghi", "unknown")
+# None of these is a point of KINDS or WIDE, of any length.
+NO_POINTS = STRANGE + NUMBERS + STRINGS + LISTS + (
+    "ball",
+    (),
+    ("x",),
+    ("Ball",),
+    ("",),
+    (None,),
+    (True,),
+    (0,),
+    ([],),
+    ({},),
+    (["ball"],),
+    (("ball",),),
+    ((),),
+    ("ball", "x"),
+    ("x", "a"),
+    ("ball", "thing", None),
+    ("ball", "ball", "ball", "ball"),
+    ("a", "a", "a", "a"),
+    ("a", "b", "c", "d", "e"),
+    ["ball", "thing"],
+    ["a", "b"],
+    {"ball": "thing"},
+)
 NO_CLASSES = STRANGE + NUMBERS + LISTS + TUPLES + STRINGS
+
+
+def has_hash(value):
+    """Whether the value can be a key of a dict."""
+    try:
+        hash(value)
+    except TypeError:
+        return False
+    return True
 
 
 def hierarchies_of(names):
@@ -50,6 +85,104 @@ def hierarchies_of(names):
 def is_below_by_definition(rows, name, other):
     """Point [5], read off the rows of a hierarchy."""
     return name == other or any(is_below_by_definition(rows, parent, other) for parent in dict(rows)[name])
+
+
+class Reference:
+    """Points [11] to [13], read off the rows of a hierarchy and a dict of methods, in the words of the document."""
+
+    def __init__(self, rows, count, methods):
+        self.rows = rows
+        self.methods = methods
+        names = [name for name, _ in rows]
+        self.above = {
+            (one, two): is_below_by_definition(rows, one, two) for one, two in itertools.product(names, repeat=2)
+        }
+        self.every = list(itertools.product(names, repeat=count))
+        self.listed = [point for point in self.every if point in methods]
+
+    def is_at_or_below(self, first, second):
+        return all(self.above[pair] for pair in zip(first, second))
+
+    def lowest(self, points):
+        return [one for one in points if not any(two != one and self.is_at_or_below(two, one) for two in points)]
+
+    def highest(self, points):
+        return [one for one in points if not any(two != one and self.is_at_or_below(one, two) for two in points)]
+
+    def applicable(self, point):
+        return [method for method in self.listed if self.is_at_or_below(point, method)]
+
+    def rivals(self, point):
+        return self.lowest(self.applicable(point))
+
+    def just_above(self, point):
+        return self.lowest([method for method in self.applicable(point) if method != point])
+
+    def has_next(self, point):
+        return len({self.expansion(method) for method in self.just_above(point)}) == 1
+
+    def expansion(self, point):
+        steps = []
+        for step in self.methods[point]:
+            if step == ("next",):
+                steps.extend(self.expansion(self.just_above(point)[0]))
+            else:
+                steps.append(step)
+        return tuple(steps)
+
+    def outcome(self, point):
+        found = {self.expansion(method) for method in self.rivals(point)}
+        if not found:
+            return "none", None
+        return ("answered", found.pop()) if len(found) == 1 else ("ambiguous", None)
+
+    def conflicts(self):
+        return self.highest([point for point in self.every if self.outcome(point)[0] == "ambiguous"])
+
+    def is_redundant(self, point):
+        return self.has_next(point) and self.expansion(self.just_above(point)[0]) == self.expansion(point)
+
+    def without(self, point):
+        left = {other: body for other, body in self.methods.items() if other != point}
+        return Reference(self.rows, len(point), left)
+
+
+PLAIN_BODIES = ((), (("say", "x"),), (("say", "y"),), (("say", "x"), ("say", "y")))
+NEXT_BODIES = ((("next",),), (("next",), ("say", "x")), (("say", "x"), ("next",)), (("say", "y"), ("next",), ("say", "x")))
+
+
+def sample_rows(source, size):
+    """The rows of a hierarchy with several superclasses."""
+    rows = []
+    for name in TWENTY[:size]:
+        earlier = [other for other, _ in rows]
+        chosen = source.sample(earlier, min(len(earlier), source.choice((0, 1, 1, 2, 2, 3))))
+        rows.append((name, tuple(chosen)))
+    return rows
+
+
+def sample_methods(source, rows, count, amount):
+    """Methods that fit together, many of them with next steps and with the same expansions, in any order."""
+    every = list(itertools.product([name for name, _ in rows], repeat=count))
+    methods = {}
+    for point in sorted(source.sample(range(len(every)), min(amount, len(every)))):
+        with_point = Reference(rows, count, {**methods, every[point]: ()})
+        may_go_on = with_point.has_next(every[point]) and source.random() < 0.5
+        methods[every[point]] = source.choice(NEXT_BODIES if may_go_on else PLAIN_BODIES)
+    shuffled = list(methods.items())
+    source.shuffle(shuffled)
+    return dict(shuffled)
+
+
+def samples(seed, amount):
+    """Tuples (rows, count, methods) with one, two and three parameters, always the same for a seed."""
+    source = random.Random(seed)
+    found = []
+    for at in range(amount):
+        count = at % 3 + 1
+        rows = sample_rows(source, source.randint(2, (8, 5, 3)[count - 1]))
+        found.append((rows, count, sample_methods(source, rows, count, source.randint(0, 9))))
+    return found
 
 
 def same(first, second):
@@ -89,5 +222,5 @@ def is_plain(value):
     if isinstance(value, (list, tuple)):
         return all(is_plain(item) for item in value)
     if isinstance(value, dict):
-        return all(is_plain(item) for item in value.values())
+        return all(is_plain(key) and is_plain(item) for key, item in value.items())
     return value is None or isinstance(value, (bool, int, str, bytes))

@@ -22,31 +22,7 @@ KINDS = Hierarchy(support.KINDS)
 WIDE = Hierarchy(support.WIDE)
 EMPTY = Hierarchy()
 
-# No points of KINDS, of WIDE or of the hierarchy without classes.
-NO_POINTS = support.STRANGE + support.NUMBERS + support.STRINGS + support.LISTS + (
-    "ball",
-    (),
-    ("x",),
-    ("Ball",),
-    ("",),
-    (None,),
-    (True,),
-    (0,),
-    ([],),
-    ({},),
-    (["ball"],),
-    (("ball",),),
-    ((),),
-    ("ball", "x"),
-    ("x", "a"),
-    ("ball", "thing", None),
-    ("ball", "ball", "ball", "ball"),
-    ("a", "a", "a", "a"),
-    ("a", "b", "c", "d", "e"),
-    ["ball", "thing"],
-    ["a", "b"],
-    {"ball": "thing"},
-)
+NO_POINTS = support.NO_POINTS
 
 
 def below_by_definition(hierarchy, first, second):

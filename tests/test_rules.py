@@ -21,6 +21,21 @@ INTERFACE = {
         "MAX_PARAMETERS": None, "is_point": None, "is_point_at_or_below": None, "listed": None, "highest": None,
         "lowest": None, "all_points": None, "points_at_or_below": None, "highest_common_points": None,
     },
+    "bodies.py": {"is_body": None},
+    "tables.py": {
+        "MethodTable": [
+            "__init__", "__eq__", "__len__", "__repr__", "LIMIT", "is_count", "hierarchy", "count", "points",
+            "has_method", "body", "with_method", "without_method", "with_class", "without_class",
+        ],
+    },
+    "calls.py": {
+        "applicable": None, "rivals": None, "just_above": None, "has_next": None, "expansion": None, "status": None,
+        "answers": None, "call": None,
+    },
+    "reduction.py": {
+        "is_redundant": None, "redundant_points": None, "reduced": None, "removals": None, "is_removal_list": None,
+        "reason": None, "is_reason": None,
+    },
 }
 
 BARRED_WORDS = (
