@@ -48,7 +48,7 @@ def shown(source, names):
 class ExamplesTest(unittest.TestCase):
     def test_examples_of_the_interface(self):
         sections = sections_of((FOLDER / "examples.md").read_text())
-        self.assertEqual(len(sections), 5)
+        self.assertEqual(len(sections), 7)
         for heading, start, blocks in sections:
             self.assertTrue(blocks)
             for block in blocks:
@@ -63,9 +63,7 @@ class ExamplesTest(unittest.TestCase):
         of_document = {heading: parts for heading, *parts in sections_of(SHARED_DOCUMENT.read_text())}
         for heading, *parts in sections_of((FOLDER / "examples.md").read_text()):
             with self.subTest(section=heading):
-                start, blocks = of_document[heading]
-                # A section of the document may have more examples than the package has so far.
-                self.assertEqual(parts, [start, blocks[:len(parts[1])]])
+                self.assertEqual(parts, of_document[heading])
 
     def test_examples_of_the_readme(self):
         text = README.read_text().replace("```", "")

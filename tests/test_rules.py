@@ -36,6 +36,10 @@ INTERFACE = {
         "is_redundant": None, "redundant_points": None, "reduced": None, "removals": None, "is_removal_list": None,
         "reason": None, "is_reason": None,
     },
+    "comparison.py": {"is_equal_in_calls": None, "highest_changes": None},
+    "conflicts.py": {"conflicts": None, "is_settled": None, "decide": None, "settle": None},
+    "threats.py": {"future_rivals": None, "is_threat": None, "threats": None, "is_safe": None},
+    "futures.py": {"class_plan": None, "is_class_plan": None, "conflicts_with_class": None},
 }
 
 BARRED_WORDS = (
