@@ -9,7 +9,7 @@ def future_rivals(table, first, second):
     table.require_method(first)
     table.require_method(second)
     hierarchy = table.hierarchy()
-    # A class below two others has the classes above it of both; this also holds if it is the lower one of the two.
+    # Above a new class stand just the classes at or above one of the two; so it is for the lower one of two, too.
     choices = [hierarchy.ancestors(one) + hierarchy.ancestors(other) for one, other in zip(first, second)]
     return lowest_within(points_within(table.points(), choices), table.above)
 

@@ -1,6 +1,7 @@
 """What several test files use."""
 
 import copy
+import inspect
 import itertools
 import random
 import unittest
@@ -211,6 +212,12 @@ class Case(unittest.TestCase):
         for name, value in attributes.items():
             self.assert_same(getattr(error, name), value)
         self.assertEqual(copied(values), before)
+
+    def assert_raises(self, wanted, value, action, *values):
+        """As assert_error, for an error with one attribute."""
+        (name,) = inspect.signature(wanted).parameters
+        with self.subTest(value=value, values=values):
+            self.assert_error(wanted, {name: value}, action, *values)
 
 
 def copied(values):

@@ -82,11 +82,6 @@ class DecidingCase(support.Case):
         self.assertEqual(repr(table), before)
         return later
 
-    def assert_raises(self, wanted, value, action, *values):
-        name = {TooMany: "limit", NotAConflict: "point"}.get(wanted, "value")
-        with self.subTest(value=value, values=values):
-            self.assert_error(wanted, {name: value}, action, *values)
-
 
 class DecideTest(DecidingCase):
     def test_samples(self):

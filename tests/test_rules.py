@@ -1,6 +1,7 @@
 """The code of the package: sizes, characters, imports, names, and where the interface is defined."""
 
 import ast
+import builtins
 import pathlib
 import re
 import unittest
@@ -132,6 +133,30 @@ class RulesTest(unittest.TestCase):
                 self.assertNotIn(one, BUILTINS, name)
             used = {node.id for node in ast.walk(tree) if isinstance(node, ast.Name)}
             self.assertEqual(used - set(bound) - set(BUILTINS), set(), name)
+
+    def test_no_parameter_or_local_variable_hides_an_import_or_a_class(self):
+        for name, tree in self.trees.items():
+            outer = [alias.name for node in tree.body if isinstance(node, ast.ImportFrom) for alias in node.names]
+            outer.extend(node.name for node in tree.body if isinstance(node, ast.ClassDef))
+            for node in ast.walk(tree):
+                if isinstance(node, ast.FunctionDef):
+                    inner = set(bound_names(node)) - {node.name}
+                    self.assertEqual(inner & set(outer), set(), (name, node.name))
+                    self.assertEqual(inner & set(dir(builtins)), set(), (name, node.name))
+
+    def test_generators_are_iterated_at_once(self):
+        generators = [
+            node.name
+            for tree in self.trees.values()
+            for node in ast.walk(tree)
+            if isinstance(node, ast.FunctionDef) and any(isinstance(part, ast.Yield) for part in ast.walk(node))
+        ]
+        self.assertEqual(sorted(generators), ["answers", "removals"])
+        for name, tree in self.trees.items():
+            iterated = [node.iter for node in ast.walk(tree) if isinstance(node, (ast.For, ast.comprehension))]
+            for node in ast.walk(tree):
+                if isinstance(node, ast.Call) and isinstance(node.func, ast.Name) and node.func.id in generators:
+                    self.assertIn(node, iterated, name)
 
     def test_methods_that_are_called(self):
         own = set(BUILTIN_METHODS)

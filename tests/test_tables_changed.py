@@ -41,11 +41,6 @@ class ChangedCase(support.Case):
         self.assertEqual(repr(self.table), repr(MethodTable(KINDS, 1, METHODS)))
         self.assertEqual(self.full.points(), PAIRS[:40])
 
-    def assert_raises(self, wanted, value, action, *values):
-        name = {TooMany: "limit", NoNext: "point"}.get(wanted, "value")
-        with self.subTest(value=value, values=values):
-            self.assert_error(wanted, {name: value}, action, *values)
-
 
 class WithMethodTest(ChangedCase):
     def test_added(self):
