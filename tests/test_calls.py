@@ -20,7 +20,6 @@ from fewestmethods.hierarchy import Hierarchy
 from fewestmethods.tables import MethodTable
 
 KINDS = Hierarchy(support.KINDS)
-WIDE = Hierarchy(support.WIDE)
 CHAIN = Hierarchy.of(a=(), b=("a",), c=("b",), d=("c",), e=("d",))
 NEXT = (("next",),)
 

@@ -17,7 +17,6 @@ from fewestmethods.reduction import removals
 from fewestmethods.tables import MethodTable
 
 KINDS = Hierarchy(support.KINDS)
-WIDE = Hierarchy(support.WIDE)
 CHAIN = Hierarchy.of(a=(), b=("a",), c=("b",), d=("c",), e=("d",))
 NEXT = (("next",),)
 SAY = (("say", "a"),)

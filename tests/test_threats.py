@@ -14,7 +14,6 @@ from fewestmethods.threats import is_threat
 from fewestmethods.threats import threats
 
 KINDS = Hierarchy(support.KINDS)
-WIDE = Hierarchy(support.WIDE)
 FLAT = Hierarchy([(letter, ()) for letter in support.TWENTY])
 NEXT = (("next",),)
 SAY = (("say", "a"),)
