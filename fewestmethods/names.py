@@ -9,3 +9,8 @@ def is_name(value):
     if not isinstance(value, str):
         return False
     return 1 <= len(value) <= LONGEST_NAME and all([letter in LETTERS for letter in value])
+
+
+def are_names(value):
+    """Whether the value is a tuple of names."""
+    return isinstance(value, tuple) and all([is_name(name) for name in value])

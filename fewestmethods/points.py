@@ -3,6 +3,7 @@
 from fewestmethods.errors import InvalidCount
 from fewestmethods.errors import InvalidPoint
 from fewestmethods.errors import InvalidPoints
+from fewestmethods.names import are_names
 
 MAX_PARAMETERS = 3
 
@@ -10,6 +11,11 @@ MAX_PARAMETERS = 3
 def is_parameter_count(value):
     """Whether the value is an integer from 1 to 3."""
     return isinstance(value, int) and not isinstance(value, bool) and 1 <= value <= MAX_PARAMETERS
+
+
+def has_form_of_point(value):
+    """Whether the value is a tuple of one to three names, be they classes or not."""
+    return are_names(value) and is_parameter_count(len(value))
 
 
 def is_point(hierarchy, value):

@@ -48,7 +48,7 @@ def shown(source, names):
 class ExamplesTest(unittest.TestCase):
     def test_examples_of_the_interface(self):
         sections = sections_of((FOLDER / "examples.md").read_text())
-        self.assertEqual(len(sections), 7)
+        self.assertEqual(len(sections), 9)
         for heading, start, blocks in sections:
             self.assertTrue(blocks)
             for block in blocks:

@@ -41,11 +41,31 @@ INTERFACE = {
     "conflicts.py": {"conflicts": None, "is_settled": None, "decide": None, "settle": None},
     "threats.py": {"future_rivals": None, "is_threat": None, "threats": None, "is_safe": None},
     "futures.py": {"class_plan": None, "is_class_plan": None, "conflicts_with_class": None},
+    "receipts.py": {"receipt_at": None, "is_receipt": None, "covers": None, "covered_points": None},
+    "dispatcher.py": {
+        "Dispatcher": [
+            "__init__", "__eq__", "__len__", "MAX_FUNCTIONS", "MAX_SITES", "is_settled", "clone", "hierarchy",
+            "functions", "table", "call", "add_function", "define", "drop", "add_class", "remove_class", "decide",
+            "reduce", "watch", "sites", "site",
+        ],
+    },
+    "modules.py": {
+        "Module": ["__init__", "__eq__", "__repr__", "name", "imports", "classes", "functions", "methods"],
+    },
+    "linking.py": {
+        "MAX_MODULES": None, "LinkedDispatcher": ["owner", "clone"], "link_order": None, "linked": None,
+        "view_of": None, "own_removals": None, "link_conflicts": None,
+    },
 }
 
 BARRED_WORDS = (
     "type typing typing_extensions enum Enum IntEnum StrEnum Flag IntFlag Generic Protocol ABC ABCMeta namedtuple "
     "NamedTuple TypedDict TYPE_CHECKING abstractmethod"
+).split()
+NEVER_USED = (
+    "register mro elements open input law version_info with_traceback add_note attrgetter breakpoint builtins compile "
+    "copyright credits delattr dir eval exec exit gc getattr globals hasattr help id importlib license locals "
+    "methodcaller os quit setattr type vars sys format format_map args sort"
 ).split()
 BUILTINS = (
     "len range enumerate zip min max sum abs sorted reversed int str bool list tuple dict set isinstance ord repr any "
@@ -85,6 +105,11 @@ def defined_names(body):
         elif isinstance(node, ast.Assign):
             found.extend(target.id for target in node.targets)
     return found
+
+
+def decorator_name(node):
+    """The last word of a decorator."""
+    return node.attr if isinstance(node, ast.Attribute) else node.id
 
 
 class RulesTest(unittest.TestCase):
@@ -170,14 +195,112 @@ class RulesTest(unittest.TestCase):
                     self.assertIn(node.func.attr, own, name)
 
     def test_no_name_is_a_method_and_an_attribute(self):
-        methods, attributes = set(), set()
+        methods, attributes, settable = set(), set(), set()
         for tree in self.trees.values():
             for node in ast.walk(tree):
                 if isinstance(node, ast.ClassDef):
                     methods.update(defined_names(node.body))
                 elif isinstance(node, ast.Attribute) and isinstance(node.ctx, ast.Store):
                     attributes.add(node.attr)
-        self.assertEqual(methods & attributes, set())
+                elif isinstance(node, ast.FunctionDef) and "setter" in map(decorator_name, node.decorator_list):
+                    settable.add(node.name)
+        # A property with a setter is assigned like an attribute.
+        self.assertEqual(methods & attributes, settable)
+
+    def test_decorators(self):
+        found = {}
+        for tree in self.trees.values():
+            for node in ast.walk(tree):
+                if isinstance(node, ast.FunctionDef) and node.decorator_list:
+                    self.assertEqual(len(node.decorator_list), 1, node.name)
+                    found.setdefault(decorator_name(node.decorator_list[0]), []).append(node.name)
+                elif isinstance(node, ast.ClassDef):
+                    self.assertEqual(node.decorator_list, [], node.name)
+        self.assertLessEqual(set(found), {"staticmethod", "classmethod", "property", "setter"})
+        # The names of the others are not names of plain methods.
+        methods = {
+            one.name
+            for tree in self.trees.values()
+            for node in ast.walk(tree)
+            if isinstance(node, ast.ClassDef)
+            for one in node.body
+            if isinstance(one, ast.FunctionDef) and not one.decorator_list
+        }
+        self.assertEqual(methods & {name for names in found.values() for name in names}, set())
+
+    def test_names_that_are_not_used(self):
+        barred = set(NEVER_USED)
+        for name, tree in self.trees.items():
+            used = set(bound_names(tree))
+            for node in ast.walk(tree):
+                if isinstance(node, ast.Attribute):
+                    used.add(node.attr)
+                elif isinstance(node, ast.keyword) and node.arg:
+                    used.add(node.arg)
+            self.assertEqual(used & barred, set(), name)
+
+    def test_is_only_with_none(self):
+        for name, tree in self.trees.items():
+            for node in ast.walk(tree):
+                if isinstance(node, ast.Compare):
+                    for sign, other in zip(node.ops, node.comparators):
+                        if isinstance(sign, (ast.Is, ast.IsNot)):
+                            self.assertIsInstance(other, ast.Constant, name)
+                            self.assertIn(other.value, (None, True, False), name)
+
+    def test_expressions_that_are_not_used(self):
+        barred = (
+            ast.Div, ast.GeneratorExp, ast.Set, ast.SetComp, ast.Global, ast.AsyncFunctionDef, ast.Await, ast.Match,
+            ast.NamedExpr, ast.AnnAssign, ast.YieldFrom,
+        )
+        for name, tree in self.trees.items():
+            for node in ast.walk(tree):
+                self.assertNotIsInstance(node, barred, (name, getattr(node, "lineno", None)))
+                if isinstance(node, ast.Constant):
+                    self.assertNotIsInstance(node.value, (float, complex, bytes), name)
+                    self.assertNotIn("%", str(node.value), name)
+
+    def test_sets_stand_in_len_only(self):
+        for name, tree in self.trees.items():
+            inside = [
+                node.args[0]
+                for node in ast.walk(tree)
+                if isinstance(node, ast.Call) and isinstance(node.func, ast.Name) and node.func.id == "len"
+            ]
+            for node in ast.walk(tree):
+                if isinstance(node, ast.Call) and isinstance(node.func, ast.Name) and node.func.id == "set":
+                    self.assertIn(node, inside, name)
+
+    def test_views_are_iterated_on_the_spot(self):
+        at_once = ("list", "tuple", "sorted", "dict", "enumerate", "zip")
+        for name, tree in self.trees.items():
+            iterated = [node.iter for node in ast.walk(tree) if isinstance(node, (ast.For, ast.comprehension))]
+            for node in ast.walk(tree):
+                if isinstance(node, ast.Call) and isinstance(node.func, ast.Name) and node.func.id in at_once:
+                    iterated.extend(node.args)
+            for node in ast.walk(tree):
+                if isinstance(node, ast.Call):
+                    called = node.func.attr if isinstance(node.func, ast.Attribute) else getattr(node.func, "id", "")
+                    if called in ("items", "values", "keys", "zip", "enumerate", "reversed", "range"):
+                        self.assertIn(node, iterated, (name, node.lineno))
+
+    def test_no_two_files_import_from_each_other(self):
+        needed = {
+            name: {node.module.split(".")[1] + ".py" for node in tree.body if isinstance(node, ast.ImportFrom)}
+            for name, tree in self.trees.items()
+        }
+        for _ in needed:
+            needed = {name: files.union(*[needed[file] for file in files]) for name, files in needed.items()}
+        for name, files in needed.items():
+            self.assertNotIn(name, files)
+
+    def test_double_underscore_methods_change_nothing(self):
+        for name, tree in self.trees.items():
+            for node in ast.walk(tree):
+                if isinstance(node, ast.FunctionDef) and node.name in ("__eq__", "__len__", "__repr__", "__str__"):
+                    self.assertIsInstance(node.body[-1], ast.Return, name)
+                    for part in ast.walk(node):
+                        self.assertNotIsInstance(part, (ast.Assign, ast.AugAssign, ast.Delete), (name, node.name))
 
     def test_the_interface_is_defined_where_it_belongs(self):
         for name, parts in INTERFACE.items():
