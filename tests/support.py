@@ -6,7 +6,11 @@ import itertools
 import random
 import unittest
 
+from fewestmethods import errors
+from fewestmethods.dispatcher import Dispatcher
 from fewestmethods.hierarchy import Hierarchy
+
+OWN_ERRORS = tuple(value for value in vars(errors).values() if isinstance(value, type))
 
 KINDS = [("thing", ()), ("shape", ("thing",)), ("solid", ("thing",)), ("ball", ("shape", "solid"))]
 
@@ -231,3 +235,43 @@ def is_plain(value):
     if isinstance(value, dict):
         return all(is_plain(key) and is_plain(item) for key, item in value.items())
     return value is None or isinstance(value, (bool, int, str, bytes))
+
+
+def outcome_of(action, *values, **named):
+    """The result of an action, or the name of the error that it raises, with its attributes."""
+    try:
+        return "result", action(*values, **named)
+    except OWN_ERRORS as error:
+        return type(error).__name__, vars(error)
+
+
+def sample_step(source, names, counts, count):
+    """A step for count parameters; some call steps are wrong."""
+    if source.random() < 0.5:
+        return "say", source.choice("xyz")
+    function = source.choice(list(counts) * 4 + ["none"])
+    length = counts.get(function, 1) if source.random() < 0.9 else source.randint(1, 3)
+    items = [source.choice([*range(count), *range(count), source.choice(names * 5 + ["gone"])]) for _ in range(length)]
+    return "call", function, tuple(items)
+
+
+def sample_body(source, names, counts, count):
+    steps = [sample_step(source, names, counts, count) for _ in range(source.choice((0, 1, 1, 2, 2, 3)))]
+    if source.random() < 0.3:
+        steps.insert(source.randint(0, len(steps)), ("next",))
+    return tuple(steps)
+
+
+def sample_calling(source):
+    """A dispatcher with three functions whose methods call each other."""
+    rows = sample_rows(source, source.randint(2, 4))
+    dispatcher = Dispatcher(Hierarchy(rows))
+    names = [name for name, _ in rows]
+    counts = {"f": 1, "g": 2, "h": source.randint(1, 3)}
+    for function, count in counts.items():
+        dispatcher.add_function(function, count)
+    for _ in range(source.randint(3, 14)):
+        function = source.choice(list(counts))
+        point = tuple(source.choices(names, k=counts[function]))
+        outcome_of(dispatcher.define, function, point, sample_body(source, names, counts, counts[function]))
+    return dispatcher

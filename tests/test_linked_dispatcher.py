@@ -21,7 +21,7 @@ A = (("say", "a"),)
 B = (("say", "b"),)
 C = (("say", "c"),)
 NEXT = (("next",),)
-OWN_ERRORS = tuple(value for value in vars(errors).values() if isinstance(value, type))
+OWN_ERRORS = support.OWN_ERRORS
 CLASSES = (("a", ()), ("b", ()), ("c", ("a", "b")), ("d", ("a", "b")), ("m", ("c", "d")), ("n", ("c", "d")))
 BASE = Module(
     "base", classes=CLASSES, functions=(("f", 1), ("g", 2)),

@@ -136,7 +136,7 @@ class EqualTest(support.Case):
         self.assertFalse(Module("right", **PARTS) != Module("right", **PARTS))
 
     def test_all_five_count(self):
-        others = [Module("left", imports=("base",), classes=CLASSES, functions=FUNCTIONS, methods=METHODS)]
+        others = [Module("other", **PARTS), Module("left", **{**PARTS, "imports": ("base",)})]
         for name in PARTS:
             others.append(Module("right", **{**PARTS, name: ()}))
             others.append(Module("right", **{**PARTS, name: PARTS[name][::-1]}))

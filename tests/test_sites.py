@@ -19,7 +19,7 @@ KINDS = Hierarchy(support.KINDS)
 A = (("say", "a"),)
 B = (("say", "b"),)
 NEXT = (("next",),)
-OWN_ERRORS = tuple(value for value in vars(errors).values() if isinstance(value, type))
+OWN_ERRORS = support.OWN_ERRORS
 
 
 def reference_of(table):

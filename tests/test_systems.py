@@ -173,6 +173,12 @@ class MethodsTest(SystemCase):
         self.assert_wrong_method((("none", ("mine",), A),), imports=("left", "free"), **own)
         self.assert_wrong_method((("make", ("none",), A),), imports=("left", "free"), **own)
 
+    def test_one_class_of_the_point_is_not_seen(self):
+        own = {"imports": ("base",), "classes": (("mine", ()),), "functions": (("make", 2),)}
+        self.assert_good_method((("make", ("mine", "thing"), A), ("make", ("thing", "mine"), A)), **own)
+        for point in (("mine", "none"), ("none", "mine"), ("mine", "lone"), ("shape", "thing"), ("thing", "shape")):
+            self.assert_wrong_method((("make", point, A),), **own)
+
     def test_the_module_owns_the_function_or_a_class(self):
         self.assert_good_method((("make", ("thing",), A),), imports=("base",), functions=(("make", 1),))
         self.assert_good_method((("show", ("mine",), A),), imports=("base",), classes=(("mine", ("thing",)),))
