@@ -245,6 +245,17 @@ def outcome_of(action, *values, **named):
         return type(error).__name__, vars(error)
 
 
+def every_point(table):
+    """All points of a table, as listed."""
+    return list(itertools.product(table.hierarchy().names(), repeat=table.count()))
+
+
+def applicable_by_definition(table, point):
+    """The points of the methods that are applicable at a point, as listed."""
+    rows = [(name, table.hierarchy().superclasses(name)) for name in table.hierarchy().names()]
+    return Reference(rows, table.count(), {one: () for one in table.points()}).applicable(point)
+
+
 def sample_step(source, names, counts, count):
     """A step for count parameters; some call steps are wrong."""
     if source.random() < 0.5:

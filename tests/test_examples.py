@@ -48,7 +48,7 @@ def shown(source, names):
 class ExamplesTest(unittest.TestCase):
     def test_examples_of_the_interface(self):
         sections = sections_of((FOLDER / "examples.md").read_text())
-        self.assertEqual(len(sections), 9)
+        self.assertEqual(len(sections), 10)
         for heading, start, blocks in sections:
             self.assertTrue(blocks)
             for block in blocks:
@@ -60,7 +60,8 @@ class ExamplesTest(unittest.TestCase):
     def test_examples_are_those_of_the_document(self):
         if not SHARED_DOCUMENT.exists():
             self.skipTest("the document does not stand beside the project")
-        of_document = {heading: parts for heading, *parts in sections_of(SHARED_DOCUMENT.read_text())}
+        of_document = {heading: parts for heading, *parts in sections_of(SHARED_DOCUMENT.read_text()) if parts[1]}
+        self.assertEqual([row[0] for row in sections_of((FOLDER / "examples.md").read_text())], list(of_document))
         for heading, *parts in sections_of((FOLDER / "examples.md").read_text()):
             with self.subTest(section=heading):
                 self.assertEqual(parts, of_document[heading])

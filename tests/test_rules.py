@@ -56,6 +56,15 @@ INTERFACE = {
         "MAX_MODULES": None, "LinkedDispatcher": ["owner", "clone"], "link_order": None, "linked": None,
         "view_of": None, "own_removals": None, "link_conflicts": None,
     },
+    "running.py": {"MAX_RUN_STEPS": None, "run": None},
+    "operations.py": {"is_operation": None, "write_operation": None, "read_operation": None},
+    "sessions.py": {
+        "Session": [
+            "__init__", "__eq__", "__len__", "__str__", "operations", "dispatcher", "clone", "read", "perform",
+            "perform_all", "undo", "redo", "can_undo", "can_redo", "run_limit", "run",
+        ],
+    },
+    "console.py": {"Console": ["__init__", "execute", "session"]},
 }
 
 BARRED_WORDS = (
