@@ -4,14 +4,15 @@ from fewestmethods.bodies import has_next_step
 from fewestmethods.bodies import is_body
 from fewestmethods.calls import AMBIGUOUS
 from fewestmethods.calls import ANSWERED
-from fewestmethods.calls import answers
 from fewestmethods.calls import next_expansions
 from fewestmethods.calls import outcome
+from fewestmethods.calls import status
 from fewestmethods.errors import InvalidBody
 from fewestmethods.errors import NotAConflict
 from fewestmethods.expansions import different_expansions
 from fewestmethods.expansions import lowest_within
 from fewestmethods.expansions import points_above
+from fewestmethods.points import all_points
 from fewestmethods.points import highest
 from fewestmethods.points import listed
 from fewestmethods.points import points_at_or_below
@@ -20,7 +21,9 @@ from fewestmethods.tables import MethodTable
 
 def ambiguous_points(table):
     """The ambiguous points of a table, as listed."""
-    return [point for point, word in answers(table) if word == AMBIGUOUS]
+    # A property reaches this function, so it iterates a list and not the generator of calls.py.
+    every = all_points(table.hierarchy(), table.count())
+    return [point for point in every if status(table, point) == AMBIGUOUS]
 
 
 def conflicts(table):

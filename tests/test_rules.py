@@ -121,6 +121,28 @@ def decorator_name(node):
     return node.attr if isinstance(node, ast.Attribute) else node.id
 
 
+def is_read_only(node):
+    """Whether a function is one that is read without a call, or by a sign: a property or one of four methods."""
+    words = [decorator_name(one) for one in node.decorator_list]
+    return "property" in words or node.name in ("__eq__", "__len__", "__repr__", "__str__")
+
+
+def used_words(node):
+    """The names and the attributes that a function reads."""
+    names = {part.id for part in ast.walk(node) if isinstance(part, ast.Name)}
+    return names | {part.attr for part in ast.walk(node) if isinstance(part, ast.Attribute)}
+
+
+def reached(functions, first):
+    """The function first and all that it may use, directly or through others; those of one name count as one."""
+    found = [first]
+    # What is found is looked at in its turn.
+    for node in found:
+        words = used_words(node)
+        found.extend(one for one in functions if one.name in words and one not in found)
+    return found
+
+
 class RulesTest(unittest.TestCase):
     @classmethod
     def setUpClass(cls):
@@ -191,6 +213,24 @@ class RulesTest(unittest.TestCase):
             for node in ast.walk(tree):
                 if isinstance(node, ast.Call) and isinstance(node.func, ast.Name) and node.func.id in generators:
                     self.assertIn(node, iterated, name)
+
+    def test_what_is_read_iterates_no_generator_and_assigns_no_part(self):
+        # The setter of a property has its name, but is not what is read.
+        functions = [
+            node
+            for tree in self.trees.values()
+            for node in ast.walk(tree)
+            if isinstance(node, ast.FunctionDef) and "setter" not in map(decorator_name, node.decorator_list)
+        ]
+        first = [node for node in functions if is_read_only(node)]
+        names = {node.name for node in first}
+        self.assertLessEqual({"is_settled", "can_undo", "can_redo", "run_limit", "__eq__", "__str__"}, names)
+        for node in first:
+            for one in reached(functions, node):
+                for part in ast.walk(one):
+                    self.assertNotIsInstance(part, (ast.Yield, ast.YieldFrom, ast.GeneratorExp), (node.name, one.name))
+                    if isinstance(part, (ast.Attribute, ast.Subscript)):
+                        self.assertIsInstance(part.ctx, ast.Load, (node.name, one.name))
 
     def test_methods_that_are_called(self):
         own = set(BUILTIN_METHODS)
